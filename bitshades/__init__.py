@@ -1,0 +1,1 @@
+"""Bitshades: tables of bits asked at few places, and their shades."""

@@ -1,0 +1,199 @@
+"""What the tests of several files share: wrong arguments of each kind, and one way to try them."""
+
+import copy
+import inspect
+import unittest
+
+from bitshades.errors import BadText, OutOfRange, ShadeError, WrongKind, WrongSize
+from bitshades.tables import Table
+
+HUGE = 10**999 + 7
+NO_INTEGERS = (True, False, None, "1", "", b"1", 1.0, 0.0, (0, 1), (), [0], [], {}, {0: 1}, Table(0, [0]), int)
+NO_ROWS = (None, True, False, 0, 1, "", "01", b"01", 1.0, {}, {0: 1}, {0}, range(1), iter([0]), Table(0, [0]), list)
+NO_TEXTS = (None, True, False, 0, 1, b"", b"0", 1.0, [], ["0"], (), ("0",), {}, Table(0, [0]), str)
+NO_TABLES = (None, True, False, 0, 1, "", "0:0", "2:0001", 1.0, [], [0], (), (0, (0,)), {}, {0: 0}, Table)
+NO_WIDTHS = ((-1, OutOfRange), (7, OutOfRange), (64, OutOfRange), (HUGE, OutOfRange), (-HUGE, OutOfRange))
+
+
+def kind_faults(values):
+    """The values as faults of kind."""
+    return [(value, WrongKind) for value in values]
+
+
+def integer_faults(least=None, greatest=None):
+    """The faults of an argument that is an integer between the bounds; no bounds for any size."""
+    faults = kind_faults(NO_INTEGERS)
+    if least is not None:
+        faults += [(least - 1, OutOfRange), (-HUGE, OutOfRange)]
+        faults += [(greatest + 1, OutOfRange), (HUGE, OutOfRange)]
+    return faults
+
+
+def width_faults():
+    return integer_faults(0, 6)
+
+
+def word_faults(width):
+    return integer_faults(0, 2**width - 1)
+
+
+def place_faults(width):
+    return integer_faults(0, width - 1)
+
+
+def table_faults():
+    return kind_faults(NO_TABLES)
+
+
+def text_faults():
+    return kind_faults(NO_TEXTS) + [("0" * 201, WrongSize), ("x" * 201, WrongSize), ("-" * 500, WrongSize)]
+
+
+def row_faults(row, least, greatest, item_faults):
+    """The faults of a row: kind, length, then each item, where `row` is a right one."""
+    faults = kind_faults(NO_ROWS)
+    filler = row[0] if row else 0
+    for item in (filler, None, -1):
+        faults += [([item] * (greatest + 1), WrongSize), ((item,) * (greatest + 2), WrongSize)]
+        if least > 0:
+            faults += [([item] * (least - 1), WrongSize), ([], WrongSize), ((), WrongSize)]
+    for index in range(len(row)):
+        for item, error in item_faults:
+            faults.append((list(row[:index]) + [item] + list(row[index + 1 :]), error))
+    if len(row) > 1 and item_faults:
+        faults += first_item_faults(row, item_faults)
+    return faults
+
+
+def first_item_faults(row, item_faults):
+    """Rows with two bad items of unlike faults: the first one is told."""
+    by_error = {}
+    for item, error in item_faults:
+        by_error.setdefault(error, item)
+    faults = []
+    for early in by_error:
+        for late in by_error:
+            faults.append((list(row[:-2]) + [by_error[early], by_error[late]], early))
+            faults.append((tuple(row[:-2]) + (by_error[early], by_error[late]), early))
+    return faults
+
+
+def fraction_faults():
+    """The faults of a fraction, each kind of them and their order."""
+    faults = kind_faults((None, True, 0, 1, "1/2", 0.5, [1, 2], [], {}, {1: 2}, Table(0, [0])))
+    faults += [(value, WrongSize) for value in ((), (1,), (1, 2, 3), (None,), (None, None, None), (1, 0, 0))]
+    for value in NO_INTEGERS:
+        faults += [((value, 2), WrongKind), ((1, value), WrongKind), ((value, 0), WrongKind), ((value, -1), WrongKind)]
+    faults += [((1, 0), OutOfRange), ((0, 0), OutOfRange), ((1, -1), OutOfRange), ((-1, -HUGE), OutOfRange)]
+    return faults
+
+
+def threshold_faults():
+    """The faults of a fraction that must be greater than 0 and at most 1."""
+    outside = ((0, 1), (0, HUGE), (-1, 2), (-HUGE, 1), (2, 1), (3, 2), (HUGE, HUGE - 1))
+    return fraction_faults() + [(value, OutOfRange) for value in outside]
+
+
+def field_faults():
+    """The faults of a field."""
+    lengths = [length for length in range(70) if length not in (1, 2, 4, 8, 16, 32, 64)] + [128]
+    faults = kind_faults(NO_ROWS)
+    for item in (0, None):
+        faults += [([item] * length, WrongSize) for length in lengths]
+    for value in NO_INTEGERS:
+        faults += [([value], WrongKind), ([1, value], WrongKind), ([1, 2, 3, value], WrongKind), ((value, 0), WrongKind)]
+    return faults
+
+
+def kinds(value):
+    """The value with its kind told at each level, so that True is not 1 and a list is no tuple."""
+    if isinstance(value, (list, tuple)):
+        return (type(value).__name__, [kinds(item) for item in value])
+    if isinstance(value, Table):
+        return ("Table", kinds(value.width), kinds(value.bits))
+    return (type(value).__name__, value)
+
+
+def changed(value):
+    """Change a returned list, and each list within it."""
+    if isinstance(value, (list, tuple)):
+        for item in value:
+            changed(item)
+    if isinstance(value, list):
+        value.reverse()
+        value.append("changed")
+
+
+class Promises(unittest.TestCase):
+    """A test that compares kinds as well as values, and that tries wrong arguments."""
+
+    def same(self, got, wanted, message=None):
+        """Both are equal, also in the kinds of all values in them."""
+        self.assertEqual(kinds(got), kinds(wanted), message)
+
+    def refused(self, error, attribute, told, function, *values, **named):
+        """The call raises exactly this error with this value of its attribute."""
+        message = f"{function} with {values!r} {named!r}"[:300]
+        try:
+            result = function(*values, **named)
+        except ShadeError as fault:
+            self.assertIs(type(fault), error, message)
+            self.assertEqual(vars(fault), {attribute: told}, message)
+            self.assertIs(type(getattr(fault, attribute)), type(told), message)
+        else:
+            self.fail(f"{message} gave {result!r}")
+
+    def bad_text(self, position, function, *values):
+        self.refused(BadText, "position", position, function, *values)
+
+    def check_calls(self, function, good):
+        """By position and by name, twice; arguments stay, and a returned list is new."""
+        values = list(good.values())
+        before = copy.deepcopy(values)
+        wanted = function(*copy.deepcopy(values))
+        self.same(function(*values), wanted)
+        self.same(function(**good), wanted)
+        self.same(values, before)
+        turned = {name: good[name] for name in reversed(good)}
+        returned = function(**turned)
+        self.same(returned, wanted)
+        changed(returned)
+        self.same(values, before)
+        self.same(function(*values), wanted)
+        for name, value in good.items():
+            if isinstance(value, list):
+                self.same(function(**{**good, name: tuple(value)}), wanted)
+
+    def check_faults(self, function, good, faults):
+        """Each fault is told, and of two faults the one of the earlier parameter."""
+        names = list(good)
+        self.assertEqual(names, list(faults))
+        for name in names:
+            for value, error in faults[name]:
+                self.refused(error, "argument", name, function, **{**good, name: value})
+                self.refused(error, "argument", name, function, *{**good, name: value}.values())
+        for index, early in enumerate(names):
+            for late in names[index + 1 :]:
+                self.check_order(function, good, early, late, faults)
+
+    def check_order(self, function, good, early, late, faults):
+        for value, error in one_of_each(faults[early]):
+            for other, _ in one_of_each(faults[late]):
+                self.refused(error, "argument", early, function, **{**good, early: value, late: other})
+
+    def check_function(self, function, good, faults):
+        """All that holds of a function with these right and wrong arguments."""
+        taken = [name for name in inspect.signature(function).parameters]
+        self.assertEqual(taken, list(good))
+        self.check_calls(function, good)
+        self.check_faults(function, good, faults)
+
+
+def one_of_each(faults):
+    """For each error class the first and the last fault, which for a row is one of an item."""
+    first = {}
+    last = {}
+    for value, error in faults:
+        first.setdefault(error, value)
+        last[error] = value
+    return [(value, error) for chosen in (first, last) for error, value in chosen.items()]

@@ -1,0 +1,113 @@
+"""The interface: where each name is defined, its parameters, and their defaults; and points 5 and 8."""
+
+import ast
+import importlib
+import inspect
+import os
+import unittest
+
+from bitshades.errors import ShadeError
+from bitshades.tables import Table
+
+FOLDER = os.path.join(os.path.dirname(os.path.dirname(os.path.abspath(__file__))), "bitshades")
+
+ERRORS = (
+    "WrongKind", "WrongSize", "OutOfRange", "BadText", "NotATable", "Spent", "TooFewPlaces", "WrongPaper",
+    "UnknownName", "NameTaken", "NothingToUndo", "BookFull",
+)
+
+FUNCTIONS = {
+    "ratios": {
+        "ratio": "(top, bottom)", "ratio_sum": "(first, second)", "ratio_difference": "(first, second)",
+        "ratio_product": "(first, second)", "ratio_quotient": "(first, second)", "ratio_power": "(base, exponent)",
+        "compare_ratios": "(first, second)", "sum_of": "(fractions)", "mean_of": "(fractions)",
+        "whole_part": "(fraction)",
+    },
+    "words": {
+        "word_count": "(width)", "all_words": "(width)", "bit_at": "(width, word, place)",
+        "turn_bit": "(width, word, place)", "add_words": "(width, first, second)", "size_of": "(width, word)",
+        "parity": "(width, chosen, word)", "word_of_bits": "(bits)", "bits_of_word": "(width, word)",
+        "set_of_places": "(width, places)", "places_of_set": "(width, chosen)", "rest_of": "(width, chosen)",
+        "beginning": "(width, word, count)", "is_within": "(width, first, second)", "subsets": "(width, chosen)",
+        "words_of_size": "(width, size)", "gather": "(width, chosen, word)", "spread": "(width, chosen, word)",
+        "reorder": "(width, word, order)", "span": "(width, words)", "across": "(width, words)",
+    },
+    "notation": {
+        "format_word": "(width, word)", "parse_word": "(text)", "format_set": "(width, chosen)",
+        "parse_set": "(width, text)", "format_ratio": "(fraction)", "parse_ratio": "(text)",
+    },
+    "making": {
+        "constant_table": "(width, bit)", "sum_table": "(width, chosen)", "place_table": "(width, place, bit=0)",
+        "product_table": "(width, chosen)", "most_table": "(width)", "size_table": "(bits)",
+        "weighted_table": "(weights, bound)", "table_of_words": "(width, words)", "early_table": "(width, count)",
+        "drawn_table": "(width, seed=0)",
+    },
+    "parting": {
+        "shifted": "(table, word)", "reordered": "(table, order)", "fixed": "(table, chosen, values)",
+        "widened": "(table, width, chosen)", "beside": "(*tables)", "composed": "(outer, *inners, width)",
+        "nested": "(outer, inner)", "with_turned_bit": "(table, word)", "difference_table": "(table, place)",
+    },
+    "shades": {
+        "field_width": "(field)", "score": "(table, chosen)", "plain_scores": "(table)", "scores": "(table)",
+        "quick_step": "(field, place)", "quick_field": "(field)", "shade": "(table, chosen)", "shades": "(table)",
+        "field_back": "(field)", "is_scores": "(field)", "table_of_scores": "(field)", "weight_of": "(table, sets)",
+        "level_weights": "(table)", "low_scores": "(table)", "heavy": "(table, threshold=(1, 4))",
+    },
+}
+
+TABLE_METHODS = (
+    "__init__", "of_text", "of_number", "sign", "signs", "__len__", "__getitem__", "__iter__", "__eq__", "__add__",
+    "__and__", "__invert__", "__str__", "width", "bits", "ones", "number",
+)
+
+
+def tree_of(name):
+    with open(os.path.join(FOLDER, name + ".py"), encoding="utf-8") as file:
+        return ast.parse(file.read())
+
+
+class Names(unittest.TestCase):
+    def test_functions(self):
+        for name, functions in FUNCTIONS.items():
+            module = importlib.import_module("bitshades." + name)
+            defined = [node.name for node in tree_of(name).body if isinstance(node, ast.FunctionDef)]
+            for function, heading in functions.items():
+                with self.subTest(function):
+                    self.assertIn(function, defined)
+                    self.assertEqual(str(inspect.signature(getattr(module, function))), heading)
+
+    def test_classes(self):
+        errors = importlib.import_module("bitshades.errors")
+        defined = [node.name for node in tree_of("errors").body if isinstance(node, ast.ClassDef)]
+        self.assertEqual(sorted(defined), sorted(ERRORS + ("ShadeError",)))
+        for name in ERRORS:
+            self.assertTrue(issubclass(getattr(errors, name), ShadeError))
+        defined = [node.name for node in tree_of("tables").body if isinstance(node, ast.ClassDef)]
+        self.assertEqual(defined, ["Table"])
+
+    def test_constant(self):
+        words = importlib.import_module("bitshades.words")
+        self.assertIs(type(words.MOST_WIDTH), int)
+        self.assertEqual(words.MOST_WIDTH, 6)
+
+    def test_table(self):
+        self.assertEqual(Table.__bases__, (object,))
+        for name in TABLE_METHODS:
+            self.assertIn(name, vars(Table))
+        for name in ("width", "bits", "ones", "number"):
+            self.assertIsInstance(vars(Table)[name], property)
+        for name in ("of_text", "of_number"):
+            self.assertIsInstance(vars(Table)[name], classmethod)
+        self.assertEqual(str(inspect.signature(Table)), "(width, bits)")
+        self.assertEqual(str(inspect.signature(Table.of_text)), "(text)")
+        self.assertEqual(str(inspect.signature(Table.of_number)), "(width, number)")
+        self.assertEqual(str(inspect.signature(Table.sign)), "(self, word)")
+        self.assertEqual(str(inspect.signature(Table.signs)), "(self)")
+
+    def test_class_methods_of_an_object(self):
+        self.assertEqual(Table(0, [0]).of_text("1:01"), Table(1, [0, 1]))
+        self.assertEqual(Table(0, [0]).of_number(1, 2), Table(1, [0, 1]))
+
+
+if __name__ == "__main__":
+    unittest.main()
