@@ -8,12 +8,23 @@ from bitshades.errors import OutOfRange, WrongKind, WrongSize
 
 MOST_CHARACTERS = 200
 MOST_ITEMS = 64
+MOST_SHARE_BOTTOM = 10000
 FIELD_LENGTHS = (1, 2, 4, 8, 16, 32, 64)
 
 
+def is_integer(value):
+    """True for an integer; a bool is none."""
+    return isinstance(value, int) and not isinstance(value, bool)
+
+
+def is_word(width, value):
+    """True for a word, or a set of places, of the width."""
+    return is_integer(value) and 0 <= value < (1 << width)
+
+
 def check_integer(value, argument):
-    """Refuse what is no integer; a bool is none."""
-    if isinstance(value, bool) or not isinstance(value, int):
+    """Refuse what is no integer."""
+    if not is_integer(value):
         raise WrongKind(argument)
 
 
@@ -69,6 +80,15 @@ def check_words(width, words, argument):
         check_word(width, word, argument)
 
 
+def check_word_pairs(width, pairs, least, greatest, argument):
+    """Refuse what is no row of least to greatest rows of two words of the width."""
+    check_row(pairs, least, greatest, argument)
+    for pair in pairs:
+        check_row(pair, 2, 2, argument)
+        for word in pair:
+            check_word(width, word, argument)
+
+
 def check_places(width, places, least, argument):
     """Refuse what is no row of at least that many places of the width, each once."""
     check_row(places, least, width, argument)
@@ -97,6 +117,14 @@ def check_fractions(fractions, least, argument):
         check_fraction(fraction, argument)
 
 
+def check_share(share, argument):
+    """Refuse what is no fraction from 0 to 1 whose second item is at most 10000."""
+    check_fraction(share, argument)
+    top, bottom = share
+    if top < 0 or top > bottom or bottom > MOST_SHARE_BOTTOM:
+        raise OutOfRange(argument)
+
+
 def check_threshold(threshold, argument):
     """Refuse what is no fraction greater than 0 and at most 1."""
     check_fraction(threshold, argument)
@@ -105,10 +133,22 @@ def check_threshold(threshold, argument):
         raise OutOfRange(argument)
 
 
+def check_field_row(row, argument):
+    """Refuse what is no row of 2^n items for some width n, whatever they are."""
+    check_row(row, 0, MOST_ITEMS, argument)
+    if len(row) not in FIELD_LENGTHS:
+        raise WrongSize(argument)
+
+
 def check_field(field, argument):
     """Refuse what is no row of 2^n integers for some width n."""
-    check_row(field, 0, MOST_ITEMS, argument)
-    if len(field) not in FIELD_LENGTHS:
-        raise WrongSize(argument)
+    check_field_row(field, argument)
     for item in field:
         check_integer(item, argument)
+
+
+def check_fraction_field(values, argument):
+    """Refuse what is no row of 2^n fractions for some width n."""
+    check_field_row(values, argument)
+    for fraction in values:
+        check_fraction(fraction, argument)

@@ -86,13 +86,19 @@ def composed(outer, *inners, width):
     return Table(width, [outer[word_of_bits([part[x] for part in inners])] for x in all_words(width)])
 
 
-def nested(outer, inner):
-    """The outer table at the words that the inner table answers, block by block."""
+def nested_width(outer, inner):
+    """The width of the nested table; refuses what are no two tables for one."""
     check_table(outer, "outer")
     check_table(inner, "inner")
     width = outer.width * inner.width
     if width > MOST_WIDTH:
         raise WrongSize("inner")
+    return width
+
+
+def nested(outer, inner):
+    """The outer table at the words that the inner table answers, block by block."""
+    width = nested_width(outer, inner)
     answers = [[inner[block] for block in blocks_of(x, outer.width, inner.width)] for x in all_words(width)]
     return Table(width, [outer[word_of_bits(bits)] for bits in answers])
 

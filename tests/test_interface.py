@@ -53,12 +53,77 @@ FUNCTIONS = {
         "field_back": "(field)", "is_scores": "(field)", "table_of_scores": "(field)", "weight_of": "(table, sets)",
         "level_weights": "(table)", "low_scores": "(table)", "heavy": "(table, threshold=(1, 4))",
     },
+    "products": {
+        "inner_product": "(first, second)", "folding": "(first, second)", "quick_folding": "(first, second)",
+        "agreement": "(first, second)", "scores_of_sum": "(first, second)", "shifted_scores": "(table, word)",
+        "reordered_scores": "(table, order)", "fixed_scores": "(table, chosen, values)",
+        "beside_scores": "(first, second)", "nested_scores": "(outer, inner)", "span_mean": "(table, words)",
+        "span_mean_by_shades": "(table, words)",
+    },
+    "pairs": {
+        "breaks": "(table, first, second)", "breaking_row": "(table)", "breaking_count": "(table)",
+        "breaking_count_by_scores": "(table)", "breaking_share": "(table)", "first_breaking_pair": "(table)",
+        "breaking_among": "(table, pairs)", "three_count": "(first, second, third)",
+        "three_count_by_scores": "(first, second, third)", "span_breaking_share": "(table, words)",
+        "span_breaking_share_by_shades": "(table, words)", "quad_count": "(table)", "quad_count_by_scores": "(table)",
+        "sum_paper": "(table)", "is_sum_paper": "(table, paper)",
+    },
+    "nearest": {
+        "unlike": "(first, second)", "distance": "(first, second)", "distances": "(table)", "nearest": "(table)",
+        "sum_distance": "(table)", "unique_nearest": "(table)", "turned_nearest": "(table)",
+        "sums_within": "(table, share)", "nearest_paper": "(table)", "is_nearest_paper": "(table, paper)",
+        "nearest_from_paper": "(table, paper)",
+    },
+    "mending": {
+        "votes_at": "(table, word)", "margin": "(table, word)", "margins": "(table)", "margins_by_scores": "(table)",
+        "mended": "(table)", "mended_times": "(table, rounds=1)", "even_words": "(table)", "mend_log": "(table)",
+        "is_mend_log": "(table, log)",
+    },
+    "asking": {
+        "ask_all": "(asked)", "told_votes": "(asked, word, words)", "asked_words": "(trial, coin_row)",
+        "refusing_count": "(trial, table)", "refusing_share": "(trial, table)", "first_refusal": "(trial, table)",
+        "passing_share": "(trial, table, times=1)", "pair_trial": "(width)", "alike_trial": "(width)",
+        "turn_trial": "(width, place)", "spot_trial": "(width, word, bit)",
+    },
+    "seeking": {
+        "weight_behind": "(table, count, start)", "weight_by_pairs": "(table, count, start)",
+        "kept_bound": "(threshold)", "near_log": "(table, threshold)", "near_sets": "(table, threshold)",
+        "near_within": "(table, share)", "is_near_log": "(table, threshold, log)", "sample_words": "(width, samples)",
+        "sampled_weight": "(asked, count, start, samples)", "sampled_log": "(asked, cut, samples)",
+        "sampled_sets": "(asked, cut, samples)", "greatest_error": "(table, cut, samples)",
+    },
+    "influence": {
+        "turning_words": "(table, place)", "influence": "(table, place)", "influence_by_scores": "(table, place)",
+        "influences": "(table)", "total_influence": "(table)", "most_influential": "(table)",
+        "least_influential": "(table)", "variance": "(table)", "sway": "(table, chosen)",
+        "tables_with_influences": "(wanted)",
+    },
+    "noise": {
+        "noise_weight": "(width, word, share)", "noise_values": "(table, share)",
+        "noise_values_by_shades": "(table, share)", "noise_step": "(values, place, share)",
+        "noise_spread": "(values, share)", "noise_shades": "(table, share)", "stability": "(table, share)",
+        "stability_by_shades": "(table, share)", "turn_share": "(table, share)", "joined_noise": "(first, second)",
+    },
+    "degree": {
+        "degree": "(table)", "degree_by_terms": "(table)", "terms": "(table)", "table_of_terms": "(field)",
+        "bit_terms": "(table)", "table_of_bit_terms": "(width, bits)", "bit_degree": "(table)", "grain": "(table)",
+        "field_degree": "(field)", "power_sums": "(field)",
+    },
 }
 
 TABLE_METHODS = (
     "__init__", "of_text", "of_number", "sign", "signs", "__len__", "__getitem__", "__iter__", "__eq__", "__add__",
     "__and__", "__invert__", "__str__", "width", "bits", "ones", "number",
 )
+
+ASKING_CLASSES = {
+    "Asked": {
+        "__init__": "(self, table, *, limit=None)", "ask": "(self, word)", "log": "(self)", "words_asked": "(self)",
+        "fresh": "(self)",
+    },
+    "Trial": {"__init__": "(self, width, coins, asks, verdict)", "__call__": "(self, asked, coin_row)"},
+}
+ASKING_PROPERTIES = {"Asked": ("width", "limit", "asks"), "Trial": ("width", "coins", "asks", "verdict")}
 
 
 def tree_of(name):
@@ -103,6 +168,19 @@ class Names(unittest.TestCase):
         self.assertEqual(str(inspect.signature(Table.of_number)), "(width, number)")
         self.assertEqual(str(inspect.signature(Table.sign)), "(self, word)")
         self.assertEqual(str(inspect.signature(Table.signs)), "(self)")
+
+    def test_asking_classes(self):
+        asking = importlib.import_module("bitshades.asking")
+        defined = [node.name for node in tree_of("asking").body if isinstance(node, ast.ClassDef)]
+        self.assertEqual(defined, list(ASKING_CLASSES))
+        for name, methods in ASKING_CLASSES.items():
+            made = getattr(asking, name)
+            self.assertEqual(made.__bases__, (object,))
+            for method, heading in methods.items():
+                self.assertIn(method, vars(made))
+                self.assertEqual(str(inspect.signature(vars(made)[method])), heading)
+            for told in ASKING_PROPERTIES[name]:
+                self.assertIsInstance(vars(made)[told], property)
 
     def test_class_methods_of_an_object(self):
         self.assertEqual(Table(0, [0]).of_text("1:01"), Table(1, [0, 1]))

@@ -32,7 +32,7 @@ NODES = (
     "Module Expr Import ImportFrom alias FunctionDef ClassDef arguments arg Assign AugAssign If While For Return Break "
     "Continue Pass Raise Assert Try ExceptHandler Call keyword Attribute Name Constant List Tuple Dict Subscript Slice "
     "Starred BinOp UnaryOp BoolOp Compare IfExp ListComp DictComp comprehension JoinedStr FormattedValue Load Store "
-    "Add Sub Mult FloorDiv Mod LShift RShift BitAnd BitOr BitXor USub Invert Not And Or Eq NotEq Lt LtE Gt GtE Is IsNot "
+    "Add Sub Mult FloorDiv Mod Pow LShift RShift BitAnd BitOr BitXor USub Invert Not And Or Eq NotEq Lt LtE Gt GtE Is IsNot "
     "In NotIn"
 ).split()
 
@@ -230,6 +230,7 @@ class Statements(unittest.TestCase):
     def test_operators_have_the_told_parameters(self):
         told = {"__add__": ["self", "other"], "__and__": ["self", "other"], "__eq__": ["self", "other"]}
         told.update({"__getitem__": ["self", "at"], "__invert__": ["self"], "__iter__": ["self"]})
+        told.update({"__call__": ["self", "asked", "coin_row"]})
         for where, node in nodes(ast.FunctionDef):
             if node.name in told:
                 self.assertEqual([one.arg for one in node.args.args], told[node.name], where)
@@ -247,6 +248,12 @@ class Statements(unittest.TestCase):
             for operator, right in zip(node.ops, node.comparators):
                 if isinstance(operator, (ast.Is, ast.IsNot)):
                     self.assertIn(getattr(right, "value", 0), (None, True, False), where)
+
+    def test_exponents_are_written_out(self):
+        for where, node in nodes(ast.BinOp):
+            if isinstance(node.op, ast.Pow):
+                self.assertIsInstance(node.right, ast.Constant, where)
+                self.assertIn(node.right.value, range(65), where)
 
     def test_no_floats(self):
         for where, node in nodes(ast.Constant):
@@ -323,7 +330,7 @@ class NamesAndCalls(unittest.TestCase):
         for where, node in nodes(ast.Call):
             if isinstance(node.func, ast.Name) and node.func.id == "isinstance":
                 told = ast.unparse(node.args[1])
-                self.assertTrue(re.fullmatch(r"int|str|bool|list|tuple|dict|Table|\(list, tuple\)", told), where)
+                self.assertTrue(re.fullmatch(r"int|str|bool|list|tuple|dict|Table|Asked|Trial|\(list, tuple\)", told), where)
 
 
 if __name__ == "__main__":
