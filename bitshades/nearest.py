@@ -47,12 +47,12 @@ def unique_nearest(table):
 
 def turned_nearest(table):
     """The tuple of the least unlike count with a sum-table, turned or not, and all its (set, bit)."""
-    counts = []
+    rows = []
     for chosen, count in enumerate(distances(table)):
-        counts.append((count, (chosen, 0)))
-        counts.append((len(table) - count, (chosen, 1)))
-    least = min([count for count, _ in counts])
-    return (least, [pair for count, pair in counts if count == least])
+        rows.append((count, (chosen, 0)))
+        rows.append((len(table) - count, (chosen, 1)))
+    least = min([row[0] for row in rows])
+    return (least, [pair for told, pair in rows if told == least])
 
 
 def sums_within(table, share):
@@ -63,12 +63,12 @@ def sums_within(table, share):
     return [chosen for chosen, count in enumerate(distances(table)) if count * bottom <= top * len(table)]
 
 
-def settles(words, pairs):
-    """True if these right tuples (set, score) tell the nearest sets of a table of that many words."""
-    if len(pairs) == words:
+def settles(count, pairs):
+    """True if these right tuples (set, score) tell the nearest sets of a table with that many words."""
+    if len(pairs) == count:
         return True
     best = max([item for _, item in pairs])
-    left = words ** 2 - sum([item ** 2 for _, item in pairs])
+    left = count ** 2 - sum([item ** 2 for _, item in pairs])
     return best > 0 and left < best ** 2
 
 

@@ -46,9 +46,9 @@ def breaking_count_by_scores(table):
     return count_from_cubes(len(field), sum([item ** 3 for item in field]))
 
 
-def count_from_cubes(words, total):
+def count_from_cubes(count, total):
     """The number of pairs that break, from the number of words and the sum of the cubes."""
-    return (words ** 3 - total) // (2 * words)
+    return (count ** 3 - total) // (2 * count)
 
 
 def breaking_share(table):

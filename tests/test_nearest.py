@@ -110,6 +110,16 @@ class Distances(Promises):
         self.same(unique_nearest(Table(0, [1])), None)
         self.same(nearest(Table(0, [1])), (1, [0]))
 
+    def test_just_below_a_quarter(self):
+        for width in range(2, 7):
+            for chosen in (0, 1, 2**width - 1):
+                table = sum_table(width, chosen)
+                for word in range(2**width // 4):
+                    self.same(unique_nearest(table), chosen)
+                    table = with_turned_bit(table, (5 * word + 2) % 2**width)
+                self.same(sum_distance(table), (1, 4))
+                self.same(unique_nearest(table), None)
+
     def test_one_nearest_set_at_a_quarter_and_above(self):
         found = []
         for number in range(256):
