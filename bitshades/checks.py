@@ -8,6 +8,8 @@ from bitshades.errors import OutOfRange, WrongKind, WrongSize
 
 MOST_CHARACTERS = 200
 MOST_ITEMS = 64
+MOST_NAME = 8
+LETTERS = "abcdefghijklmnopqrstuvwxyz"
 MOST_SHARE_BOTTOM = 10000
 FIELD_LENGTHS = (1, 2, 4, 8, 16, 32, 64)
 
@@ -20,6 +22,16 @@ def is_integer(value):
 def is_word(width, value):
     """True for a word, or a set of places, of the width."""
     return is_integer(value) and 0 <= value < (1 << width)
+
+
+def is_place(width, value):
+    """True for a place of the width."""
+    return is_integer(value) and 0 <= value < width
+
+
+def is_name(text):
+    """True for a text of 1 to 8 characters from a to z."""
+    return 0 < len(text) <= MOST_NAME and all([character in LETTERS for character in text])
 
 
 def check_integer(value, argument):
@@ -56,6 +68,14 @@ def check_text(text, argument):
         raise WrongKind(argument)
     if len(text) > MOST_CHARACTERS:
         raise WrongSize(argument)
+
+
+def check_name(name, argument):
+    """Refuse what is no name."""
+    if not isinstance(name, str):
+        raise WrongKind(argument)
+    if not is_name(name):
+        raise OutOfRange(argument)
 
 
 def check_row(row, least, greatest, argument):

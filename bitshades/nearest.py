@@ -45,14 +45,19 @@ def unique_nearest(table):
     return None
 
 
+def least_rows(rows):
+    """The tuple of the least count and the list of all values that have it, where a row is a count and a value."""
+    least = min([count for count, _ in rows])
+    return (least, [value for count, value in rows if count == least])
+
+
 def turned_nearest(table):
     """The tuple of the least unlike count with a sum-table, turned or not, and all its (set, bit)."""
     rows = []
     for chosen, count in enumerate(distances(table)):
         rows.append((count, (chosen, 0)))
         rows.append((len(table) - count, (chosen, 1)))
-    least = min([row[0] for row in rows])
-    return (least, [pair for told, pair in rows if told == least])
+    return least_rows(rows)
 
 
 def sums_within(table, share):

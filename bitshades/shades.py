@@ -109,10 +109,16 @@ def squares_at(field, sets):
     return ratio(sum([field[chosen] * field[chosen] for chosen in sets]), len(field) * len(field))
 
 
+def level_sums(field):
+    """The list of the sums of the items at all sets of one size, by size."""
+    width = width_of(field)
+    return [sum([field[chosen] for chosen in words_of_size(width, size)]) for size in range(width + 1)]
+
+
 def level_weights(table):
     """The list of the sums of the squared shades at all sets of one size, by size."""
     field = scores(table)
-    return [squares_at(field, words_of_size(table.width, size)) for size in range(table.width + 1)]
+    return [ratio(item, len(field) ** 2) for item in level_sums([item ** 2 for item in field])]
 
 
 def low_scores(table):

@@ -5,6 +5,8 @@ import inspect
 import unittest
 
 from bitshades.asking import Asked, Trial
+from bitshades.book import Book
+from bitshades.changes import Led
 from bitshades.errors import BadText, OutOfRange, ShadeError, Spent, WrongKind, WrongSize
 from bitshades.tables import Table
 
@@ -16,9 +18,16 @@ NO_ROWS = (None, True, False, 0, 1, "", "01", b"01", 1.0, {}, {0: 1}, {0}, range
 NO_TEXTS = (None, True, False, 0, 1, b"", b"0", 1.0, [], ["0"], (), ("0",), {}, Table(0, [0]), str)
 NO_TABLES = (
     None, True, False, 0, 1, "", "0:0", "2:0001", 1.0, [], [0], (), (0, (0,)), {}, {0: 0}, Table,
-    Asked(Table(0, [0])), NO_WIDTH_TRIAL,
+    Asked(Table(0, [0])), NO_WIDTH_TRIAL, Led(Table(0, [0])), Book(),
 )
-NO_ASKED = (None, True, False, 0, 1, "", "0:0", 1.0, [], [0], (), {}, Table(0, [0]), Asked, NO_WIDTH_TRIAL)
+NO_ASKED = (
+    None, True, False, 0, 1, "", "0:0", 1.0, [], [0], (), {}, Table(0, [0]), Asked, NO_WIDTH_TRIAL, Led(Table(0, [0])), Book(),
+)
+NO_BOOKS = (
+    None, True, False, 0, 1, "", "table f 0:0", 1.0, [], [("table f 0:0", "0:0")], (), {}, Book, Table(0, [0]),
+    Led(Table(0, [0])), Asked(Table(0, [0])),
+)
+NO_NAMES = ("", "abcdefghi", "a" * 200, "a" * 201, "A", "aB", "a1", "1", "a b", " a", "a ", "a-b", "a_", "{", "`", "a\n", "\t")
 NO_TRIALS = (None, True, False, 0, 1, "", 1.0, [], (), (0, 0, (), Table(0, [0])), {}, Trial, Table(0, [0]), Asked(Table(0, [0])))
 NO_WIDTHS = ((-1, OutOfRange), (7, OutOfRange), (64, OutOfRange), (HUGE, OutOfRange), (-HUGE, OutOfRange))
 
@@ -55,6 +64,16 @@ def table_faults():
 
 def text_faults():
     return kind_faults(NO_TEXTS) + [("0" * 201, WrongSize), ("x" * 201, WrongSize), ("-" * 500, WrongSize)]
+
+
+def name_faults():
+    return kind_faults(NO_TEXTS) + [(value, OutOfRange) for value in NO_NAMES]
+
+
+def order_faults():
+    """The faults of an order."""
+    others = ("", "a", "ab", "abd", "aab", "abca", "ABC", " abc", "abc ", "ring", "a,b,c", "abc\n", "abc" * 100)
+    return kind_faults(NO_TEXTS) + [(value, OutOfRange) for value in others]
 
 
 def row_faults(row, least, greatest, item_faults):
@@ -140,6 +159,11 @@ def kinds(value):
         return ("Asked", kinds(value.width), kinds(value.limit), kinds(value.log()))
     if isinstance(value, Trial):
         return ("Trial", kinds(value.width), kinds(value.coins), kinds(value.asks), kinds(value.verdict))
+    if isinstance(value, Led):
+        return ("Led", kinds(value.table), kinds(value.scores), kinds(value.breaking), kinds(value.steps()))
+    if isinstance(value, Book):
+        held = [(name, kinds(value.table_of(name)), kinds(value.papers_of(name))) for name in value.names()]
+        return ("Book", kinds(value.rows()), held)
     return (type(value).__name__, value)
 
 
@@ -302,6 +326,15 @@ ANY_VALUES = (
     [(0, 1, 1)], [(0,)], [((0,), 1)], [([0], 1)], [(0, [1])], [(-1, 1)], [(64, 0)], [(HUGE, HUGE)], [(0, Table(0, [0]))],
     [Table(0, [0])], [Table(2, [0, 0, 0, 1]), (0, 1)], (Table(0, [0]),), [[(0, (1, 1), None)]], [[(0, 1, True)]],
     [[Table(0, [0])]], [[(Table(0, [0]), (1, 1), True)]], [[(0, Table(0, [0]), True)]], [[(0, (1, 1))]], [[0]], [["0"]],
+    (0, 0, 1), (0, (1, 0, 1), 1), (0, (0, 0, 1), 1), (0, 0, (6, 0, 1)), (HUGE, 0, 1), (-1, 0, 1), ("0", 0, 1), (None, 0, 1),
+    (0, 0), (0, 0, 1, 1), (0, [1, 0, 1], 0), [0, 0, 1], (0, 0, None), (0, 2, 1), (0, -1, 1), (0, Table(0, [0]), 1), (Table(0, [0]), 0, 1),
+    (0, Table(0, [0])), (0, Table(0, [1])), (1, Table(1, [0, 1])), (3, Table(2, [0, 0, 0, 1])), (0, Table(0, [0]), []), (0, "0:0"),
+    [(0, 0), (1, 1)], [(0, 64)], [(6, 0)], [(0, HUGE)], [(HUGE, 0)], [(-1, -1)], [("0", "1")], [((0, 0), (0, 0))], [None, (0, 0)],
+    ("unlike", 0, 1), ("unlike", 1, 0), ("unlike", 0, 0), ("unlike", 0, 3), ("unlike", -1, 0), ("unlike", 0, None),
+    ("unlike", "0", "1"), ("unlike", Table(0, [0]), 1), ("own", 0, 0), ("own", 0, 1), ("own", 0, 2), ("own", 6, 0), ("own", -1, 0),
+    ("own", None, None), ("own", [], []), ("own", 0), ("ring",), ("ring", []), ("ring", ()), ("ring", None), ("ring", "abc"),
+    ("ring", ["abc"]), ("ring", ["abd"]), ("ring", [None]), ("ring", [["abc"]]), ("ring", [Table(0, [0])]), ("ring", [0, 1]),
+    ("ring", ["abc", "bca", "cab"]), ("ring", ["ring"]), ("ring", [""]), ("ring", [], []), ["ring", []], ("ring", 0, 1), "ring",
     nest(0, 20, list), nest(0, 20, tuple), nest((), 19, list), nest(Table(0, [0]), 20, tuple), [0] * 1000, ("sum",) * 1000,
     [(0, 1)] * 1000,
 )

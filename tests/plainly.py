@@ -61,6 +61,41 @@ def sets_across(width, words):
     return [chosen for chosen in range(2**width) if all(ones_in(chosen & word) % 2 == 0 for word in words)]
 
 
+def flipped(word, place):
+    """The word turned at the place."""
+    return word - 2**place if word // 2**place % 2 else word + 2**place
+
+
+def gathered(chosen, word):
+    """The word that the word gathers to by the set."""
+    return sum(word // 2**place % 2 * 2**index for index, place in enumerate(places_in(chosen)))
+
+
+def sets_of_size(width, size):
+    return [chosen for chosen in range(2**width) if ones_in(chosen) == size]
+
+
+def turning(table, place):
+    """The words that turn the table at the place."""
+    return [word for word in range(len(table)) if table.bits[word] != table.bits[flipped(word, place)]]
+
+
+def counting(table):
+    """The places that count."""
+    return [place for place in range(table.width) if turning(table, place)]
+
+
+def sum_breaks(table):
+    """How many pairs of words break the table."""
+    bits = table.bits
+    words = range(len(bits))
+    return len([1 for x in words for y in words if (bits[x] + bits[y]) % 2 != bits[x ^ y]])
+
+
+def number_of(table):
+    return sum(2**word for word, bit in enumerate(table.bits) if bit)
+
+
 def all_tables(width):
     return [Table(width, bits) for bits in product((0, 1), repeat=2**width)]
 

@@ -109,6 +109,44 @@ FUNCTIONS = {
         "bit_terms": "(table)", "table_of_bit_terms": "(width, bits)", "bit_degree": "(table)", "grain": "(table)",
         "field_degree": "(field)", "power_sums": "(field)",
     },
+    "learning": {
+        "counting_places": "(table)", "counting_places_by_scores": "(table)", "place_pairs": "(table)",
+        "is_place_pairs": "(table, paper)", "core": "(table)", "is_core": "(table, paper)",
+        "covering_words": "(width, few=1)", "is_covering": "(width, few, words)", "learn_few": "(asked, few=1)",
+        "is_learnt": "(table, few, paper)", "degree_words": "(width, most)", "learn_degree": "(asked, most)",
+    },
+    "trees": {
+        "is_tree": "(width, paper)", "tree_table": "(width, tree)", "follow": "(width, tree, word)",
+        "tree_depth": "(width, tree)", "leaf_count": "(width, tree)", "asking_shares": "(width, tree)",
+        "tree_scores": "(width, tree)", "plain_tree": "(table)", "best_tree": "(table)", "least_depth": "(table)",
+        "least_certificate": "(table, word)", "certificate_sizes": "(table)",
+        "is_certificate": "(table, word, chosen)", "sensitivity": "(table, word)",
+    },
+    "qualities": {
+        "falls": "(table)", "goes_up": "(table)", "falling_share": "(table)", "raised_at": "(table, place)",
+        "raised": "(table)", "own_place": "(table)", "product_set": "(table)", "splits_count": "(table)",
+        "noisy_share": "(table, share)", "noisy_share_by_scores": "(table, share)", "all_up": "(width)",
+        "up_distance": "(table)", "nearest_products": "(table)", "nearest_own": "(table)",
+    },
+    "counts": {
+        "all_tables": "(width)", "measure_of": "(table, measure)", "tally": "(width, measure)",
+        "tables_like": "(table)", "tables_where": "(width, measure, value)",
+    },
+    "votes": {
+        "order_bits": "(order)", "order_of_bits": "(bits)", "ballot_words": "(orders)",
+        "ballot_of_words": "(width, first, second, third)", "outcome": "(first, second, third, orders)",
+        "all_ballots": "(voters)", "ring_count": "(first, second, third)", "ring_share": "(first, second, third)",
+        "outcome_counts": "(first, second, third)", "first_ring": "(first, second, third)",
+        "ring_share_by_shades": "(first, second, third)", "ring_paper": "(first, second, third)",
+        "is_ring_paper": "(first, second, third, paper)",
+    },
+    "changes": {"led_scores": "(field, word, bit)"},
+    "scripts": {"parse_line": "(line)", "format_line": "(pieces)", "parse_script": "(source)"},
+    "book": {},
+    "audit": {
+        "replay": "(lines)", "audit": "(rows)", "first_difference": "(first, second)", "book_text": "(book)",
+        "book_of_text": "(source)",
+    },
 }
 
 TABLE_METHODS = (
@@ -116,14 +154,32 @@ TABLE_METHODS = (
     "__and__", "__invert__", "__str__", "width", "bits", "ones", "number",
 )
 
-ASKING_CLASSES = {
-    "Asked": {
-        "__init__": "(self, table, *, limit=None)", "ask": "(self, word)", "log": "(self)", "words_asked": "(self)",
-        "fresh": "(self)",
+# The methods of each class beside Table, and behind them its properties.
+CLASSES = {
+    "asking": {
+        "Asked": {
+            "__init__": "(self, table, *, limit=None)", "ask": "(self, word)", "log": "(self)",
+            "words_asked": "(self)", "fresh": "(self)", "width": None, "limit": None, "asks": None,
+        },
+        "Trial": {
+            "__init__": "(self, width, coins, asks, verdict)", "__call__": "(self, asked, coin_row)", "width": None,
+            "coins": None, "asks": None, "verdict": None,
+        },
     },
-    "Trial": {"__init__": "(self, width, coins, asks, verdict)", "__call__": "(self, asked, coin_row)"},
+    "changes": {
+        "Led": {
+            "__init__": "(self, table)", "turn": "(self, word)", "undo": "(self)", "steps": "(self)",
+            "twin": "(self)", "table": None, "scores": None, "breaking": None,
+        },
+    },
+    "book": {
+        "Book": {
+            "__init__": "(self)", "run": "(self, line)", "undo": "(self)", "rows": "(self)", "names": "(self)",
+            "table_of": "(self, name)", "papers_of": "(self, name)", "twin": "(self)", "__len__": "(self)",
+            "__iter__": "(self)", "__contains__": "(self, x)", "__eq__": "(self, other)",
+        },
+    },
 }
-ASKING_PROPERTIES = {"Asked": ("width", "limit", "asks"), "Trial": ("width", "coins", "asks", "verdict")}
 
 
 def tree_of(name):
@@ -169,18 +225,27 @@ class Names(unittest.TestCase):
         self.assertEqual(str(inspect.signature(Table.sign)), "(self, word)")
         self.assertEqual(str(inspect.signature(Table.signs)), "(self)")
 
-    def test_asking_classes(self):
-        asking = importlib.import_module("bitshades.asking")
-        defined = [node.name for node in tree_of("asking").body if isinstance(node, ast.ClassDef)]
-        self.assertEqual(defined, list(ASKING_CLASSES))
-        for name, methods in ASKING_CLASSES.items():
-            made = getattr(asking, name)
-            self.assertEqual(made.__bases__, (object,))
-            for method, heading in methods.items():
-                self.assertIn(method, vars(made))
-                self.assertEqual(str(inspect.signature(vars(made)[method])), heading)
-            for told in ASKING_PROPERTIES[name]:
-                self.assertIsInstance(vars(made)[told], property)
+    def test_other_classes(self):
+        for name, classes in CLASSES.items():
+            module = importlib.import_module("bitshades." + name)
+            defined = [node.name for node in tree_of(name).body if isinstance(node, ast.ClassDef)]
+            self.assertEqual(defined, list(classes))
+            for made, parts in classes.items():
+                self.assertEqual(getattr(module, made).__bases__, (object,))
+                for part, heading in parts.items():
+                    found = vars(getattr(module, made))[part]
+                    if heading is None:
+                        self.assertIsInstance(found, property)
+                    else:
+                        self.assertEqual(str(inspect.signature(found)), heading)
+
+    def test_constants_of_texts(self):
+        counts = importlib.import_module("bitshades.counts")
+        self.assertEqual(counts.MEASURES, ("ones", "unlike", "breaking", "turns", "degree", "falls"))
+        votes = importlib.import_module("bitshades.votes")
+        self.assertEqual(votes.ORDERS, ("abc", "acb", "bac", "bca", "cab", "cba"))
+        self.assertIs(type(counts.MEASURES), tuple)
+        self.assertIs(type(votes.ORDERS), tuple)
 
     def test_class_methods_of_an_object(self):
         self.assertEqual(Table(0, [0]).of_text("1:01"), Table(1, [0, 1]))

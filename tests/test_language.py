@@ -31,7 +31,7 @@ DOUBLE_UNDERSCORE = (
 NODES = (
     "Module Expr Import ImportFrom alias FunctionDef ClassDef arguments arg Assign AugAssign If While For Return Break "
     "Continue Pass Raise Assert Try ExceptHandler Call keyword Attribute Name Constant List Tuple Dict Subscript Slice "
-    "Starred BinOp UnaryOp BoolOp Compare IfExp ListComp DictComp comprehension JoinedStr FormattedValue Load Store "
+    "Starred BinOp UnaryOp BoolOp Compare IfExp ListComp SetComp DictComp comprehension JoinedStr FormattedValue Load Store "
     "Add Sub Mult FloorDiv Mod Pow LShift RShift BitAnd BitOr BitXor USub Invert Not And Or Eq NotEq Lt LtE Gt GtE Is IsNot "
     "In NotIn"
 ).split()
@@ -82,6 +82,16 @@ def plain(value):
     if isinstance(value, (ast.Tuple, ast.List)):
         return all(plain(item) for item in value.elts)
     return isinstance(value, ast.Constant) and isinstance(value.value, (int, str, bool, type(None)))
+
+
+def plain_dict(value, functions):
+    """Whether a dict at module level is plainly written out, from texts to tuples or to functions above it."""
+    if not isinstance(value, ast.Dict) or not all(plain(key) for key in value.keys):
+        return False
+    named = [item for item in value.values if isinstance(item, ast.Name)]
+    if not all(item.id in functions for item in named):
+        return False
+    return all(plain(item) and not isinstance(item, ast.List) for item in value.values if item not in named)
 
 
 def defined_in(tree):
@@ -149,10 +159,13 @@ class Modules(unittest.TestCase):
         for name, tree in TREES.items():
             bound = defined_in(tree) + imported_in(tree)
             self.assertEqual(len(bound), len(set(bound)), name)
+            functions = []
             for statement in tree.body:
+                if isinstance(statement, ast.FunctionDef):
+                    functions.append(statement.name)
                 if isinstance(statement, ast.Assign):
                     self.assertEqual(len(statement.targets), 1, name)
-                    self.assertTrue(plain(statement.value), name)
+                    self.assertTrue(plain(statement.value) or plain_dict(statement.value, functions), name)
                 elif not is_docstring(statement):
                     self.assertIsInstance(statement, (ast.ImportFrom, ast.FunctionDef, ast.ClassDef), name)
 
@@ -230,7 +243,7 @@ class Statements(unittest.TestCase):
     def test_operators_have_the_told_parameters(self):
         told = {"__add__": ["self", "other"], "__and__": ["self", "other"], "__eq__": ["self", "other"]}
         told.update({"__getitem__": ["self", "at"], "__invert__": ["self"], "__iter__": ["self"]})
-        told.update({"__call__": ["self", "asked", "coin_row"]})
+        told.update({"__call__": ["self", "asked", "coin_row"], "__contains__": ["self", "x"], "__len__": ["self"]})
         for where, node in nodes(ast.FunctionDef):
             if node.name in told:
                 self.assertEqual([one.arg for one in node.args.args], told[node.name], where)
@@ -242,6 +255,29 @@ class Statements(unittest.TestCase):
             self.assertIsInstance(node.exc, ast.Call, where)
             self.assertIn(node.exc.func.id, errors, where)
             self.assertEqual(node.exc.keywords, [], where)
+
+    def test_catching(self):
+        errors = [node.name for node in TREES["errors.py"].body if isinstance(node, ast.ClassDef)]
+        for where, node in nodes(ast.Try):
+            self.assertEqual((len(node.handlers), node.orelse, node.finalbody), (1, [], []), where)
+            self.assertIsInstance(node.handlers[0].type, ast.Name, where)
+            self.assertIn(node.handlers[0].type.id, errors, where)
+            self.assertIsNone(node.handlers[0].name, where)
+
+    def test_tables_of_functions_are_called_by_a_name(self):
+        for where, node in nodes(ast.Call):
+            self.assertIsInstance(node.func, (ast.Name, ast.Attribute), where)
+
+    def test_sets_are_only_measured_or_sorted(self):
+        allowed = []
+        for _, node in nodes(ast.Call):
+            if isinstance(node.func, ast.Name) and node.func.id in ("len", "sorted"):
+                allowed += node.args
+        for where, node in nodes(ast.SetComp, ast.Set):
+            self.assertTrue(any(node is one for one in allowed), where)
+        for where, node in nodes(ast.Call):
+            if isinstance(node.func, ast.Name) and node.func.id == "set":
+                self.assertTrue(any(node is one for one in allowed), where)
 
     def test_is_beside_none_true_and_false(self):
         for where, node in nodes(ast.Compare):
@@ -330,7 +366,7 @@ class NamesAndCalls(unittest.TestCase):
         for where, node in nodes(ast.Call):
             if isinstance(node.func, ast.Name) and node.func.id == "isinstance":
                 told = ast.unparse(node.args[1])
-                self.assertTrue(re.fullmatch(r"int|str|bool|list|tuple|dict|Table|Asked|Trial|\(list, tuple\)", told), where)
+                self.assertTrue(re.fullmatch(r"int|str|bool|list|tuple|dict|Table|Asked|Trial|Book|\(list, tuple\)", told), where)
 
 
 if __name__ == "__main__":
